@@ -1,0 +1,1 @@
+"""Joinrounds: joining all beginnings of a row in rounds."""
