@@ -1,6 +1,6 @@
 """Books of plans."""
 
-from joinrounds.errors import InvalidPlace, InvalidPlans, InvalidText, UnknownPlan
+from joinrounds.errors import InvalidPlace, InvalidPlans, InvalidText, NotABook, UnknownPlan
 from joinrounds.forms import can_stand, is_goal, is_integer, is_name, read_digit, read_round
 from joinrounds.limits import MOST_BASE, MOST_PLANS, MOST_ROUNDS
 
@@ -119,3 +119,10 @@ class Book:
 
     def __repr__(self):
         return f"Book of {len(self.kept)} plans"
+
+
+def plan_of(book, name):
+    """The plan with this name, whatever both are: NotABook, then UnknownPlan."""
+    if not isinstance(book, Book):
+        raise NotABook(book)
+    return book.plan(name)

@@ -1,15 +1,22 @@
-"""The forms of integers, names, goals, clauses and rounds."""
+"""The forms of integers, counts, names, goals, clauses and rounds."""
 
 from joinrounds.limits import MOST_CLASSES, MOST_CLAUSES, MOST_FAR, MOST_LAST
 
 LONGEST_NAME = 8
 LETTERS = "abcdefghijklmnopqrstuvwxyz"
 DIGITS = "0123456789"
+# Behind so many places the classes with the divisors 1, 2 and 3 come again as they were.
+PERIOD = 6
 
 
 def is_integer(value):
     """Whether this is an integer; True and False are none."""
     return isinstance(value, int) and not isinstance(value, bool)
+
+
+def is_count(value, most):
+    """Whether this is an integer from 1 to the most."""
+    return is_integer(value) and 1 <= value <= most
 
 
 def is_name(value):
@@ -23,6 +30,13 @@ def is_goal(value):
     """Whether this is a goal of a plan."""
     lasts = [f"last {many}" for many in range(1, MOST_LAST + 1)]
     return isinstance(value, str) and value in ["all", "before"] + lasts
+
+
+def last_of(goal):
+    """How many pieces a goal is about at most, None if it begins with the first one."""
+    if goal in ("all", "before"):
+        return None
+    return int(goal[-1])
 
 
 def read_digit(word, low, high):

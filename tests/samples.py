@@ -11,6 +11,48 @@ THREE = ("three", "last 3", 2, ("join 0 of 1 left 1", "join 0 of 1 left 1"))
 UP_TEXT = "plan up all base 1\njoin 1 of 2 left 1\ncall up on 1 of 2\njoin 0 of 2 left 1"
 THREE_TEXT = "plan three last 3 base 2\njoin 0 of 1 left 1\njoin 0 of 1 left 1"
 BOTH_TEXT = UP_TEXT + "\n" + THREE_TEXT
+FOUR_TEXT = "plan four last 4 base 1\njoin 0 of 1 left 1\njoin 0 of 1 left 2"
+
+# Books whose first plan is sound and uses all others.
+SOUND_TEXTS = (
+    UP_TEXT,
+    FOUR_TEXT,
+    "plan two last 2 base 1\njoin 0 of 1 left 1",
+    "plan one last 1 base 1\ncall one on 1 of 2; call one on 0 of 2\ncall one on 1 of 3",
+    "plan odd all base 3\njoin 0 of 1 left 1\ncall odd on 0 of 2; call odd on 1 of 2",
+    "plan even all base 1\njoin 0 of 2 left 1\ncall even on 0 of 2\njoin 1 of 2 left 1",
+    "plan four last 4 base 3\njoin 0 of 1 left 1\njoin 1 of 2 left 2\njoin 0 of 2 left 2",
+    "plan third all base 2\njoin 1 of 3 left 1; join 2 of 3 left 1\njoin 2 of 3 left 2\n"
+    "call third on 2 of 3\njoin 0 of 3 left 1; join 1 of 3 left 2",
+    "plan ahead before base 1\ntake 0 of 1 left 1\ncall up on 0 of 1\n" + UP_TEXT,
+    "plan ahead before base 4\njoin 0 of 2 right 1; take 1 of 2 left 1\ncall ahead on 0 of 2\njoin 1 of 2 left 1",
+    "plan p all base 1\ncall q on 0 of 1\nplan q all base 4\ncall r on 0 of 1\nplan r all base 2\ncall up on 0 of 1\n"
+    + UP_TEXT,
+    "plan a all base 1\njoin 1 of 2 left 1\ncall b on 1 of 2\njoin 0 of 2 left 1\n"
+    "plan b all base 2\njoin 1 of 2 left 1\ncall a on 1 of 2\njoin 0 of 2 left 1",
+)
+
+
+def late_text(kind, name="late", goal="all", end=""):
+    """A book whose first plan goes wrong late: it joins at most twelve pieces at the places of a class by three."""
+    first, second, third = [f"{(kind + far) % 3} of 3" for far in (0, 1, 2)]
+    return (f"plan {name} {goal} base 1\njoin {third} left 1; join {first} left 1\njoin {first} left 2\n"
+            f"call four on {first}\njoin {second} left 1; join {third} left 2{end}\n{FOUR_TEXT}")
+
+
+# Books with what is to be told of their first plans.
+WRONG_TEXTS = (
+    (THREE_TEXT, ("three", 3, 1)),
+    ("plan two all base 1\njoin 0 of 1 left 1", ("two", 3, 2)),
+    (late_text(0), ("late", 13, 12)),
+    (late_text(1), ("late", 14, 13)),
+    (late_text(2), ("late", 15, 14)),
+    (late_text(2, "later", "before", "\ntake 0 of 1 left 1"), ("later", 16, 15)),
+    (FOUR_TEXT.replace("last 4", "all"), ("four", 5, 4)),
+    ("plan clear all base 4\nclear 0 of 1", ("clear", 5, 0)),
+    ("plan swap last 1 base 2" + "\ntake 0 of 2 right 1; take 1 of 2 left 1" * 2, ("swap", 3, 2)),
+    ("plan far last 4 base 1\njoin 0 of 1 left 1\njoin 0 of 1 left 2\njoin 2 of 3 right 4", ("far", 7, 2)),
+)
 
 GOOD_NAMES = ("a", "z", "a1", "z9", "abcdefgh", "a2345678", "q0", "join", "take", "clear", "call",
               "on", "of", "plan", "all", "before", "last", "base", "left", "right")

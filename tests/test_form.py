@@ -78,6 +78,14 @@ class FormTest(unittest.TestCase):
                     for one in node.names:
                         self.assertRegex(source, rf"(?m)^(def |class )?{one.name}\b", path.name)
 
+    def test_no_two_files_import_from_each_other(self):
+        needed = {path.stem: {node.module.split(".")[1] for node in ast.walk(ast.parse(path.read_text("ascii")))
+                              if isinstance(node, ast.ImportFrom)} for path in files()}
+        while needed:
+            free = [name for name, names in needed.items() if not names & needed.keys()]
+            self.assertNotEqual(free, [], needed)
+            needed = {name: names for name, names in needed.items() if name not in free}
+
     def test_names(self):
         for where, node in trees():
             for name in names_of(node):

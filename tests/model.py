@@ -1,0 +1,153 @@
+"""Levels and hazards once more, as the document's words tell them, by other means than the package.
+
+Words are tuples of the numbers of the pieces that were joined, None for what is spoilt.
+"""
+
+import random
+import re
+
+from joinrounds.books import Book
+from tests.samples import CLASSES, GOALS, groups_of_classes, plain_clauses
+
+CLAUSE = re.compile(r"(join|take|clear|call)(?: (\S+) on)? (\d) of (\d)(?: (left|right) (\d))?")
+GROUPS = [kinds for many in (1, 2, 3) for kinds, apart in groups_of_classes(many) if apart]
+
+
+def joined(words):
+    """The join of these words, in their order."""
+    if None in words:
+        return None
+    pieces = tuple(piece for word in words for piece in word)
+    one_by_one = all(piece + 1 == other for piece, other in zip(pieces, pieces[1:]))
+    return pieces if one_by_one else None
+
+
+def told(goal, words):
+    """What a goal says for a row of these pieces."""
+    if goal == "all":
+        return [joined(words[:place + 1]) for place in range(len(words))]
+    if goal == "before":
+        return [joined(words[:place]) for place in range(len(words))]
+    many = int(goal.split(" ")[1])
+    return [joined(words[:place + 1][-many:]) for place in range(len(words))]
+
+
+def model_round(goals, words, text):
+    """The words behind a round; the goals are those of the plans by their names."""
+    after = dict(enumerate(words))
+    before = dict(after)
+    for part in text.split("; "):
+        deed, name, rest, many, side, far = CLAUSE.fullmatch(part).groups()
+        places = [place for place in before if place % int(many) == int(rest)]
+        if deed == "call":
+            after.update(zip(places, told(goals[name], [before[place] for place in places])))
+            continue
+        for place in places:
+            other = place - int(far or 0) if side == "left" else place + int(far or 0)
+            if deed == "clear":
+                after[place] = ()
+            elif deed == "take":
+                after[place] = before.get(other, ())
+            elif other in before:
+                pair = sorted((place, other))
+                after[place] = joined([before[one] for one in pair])
+    return list(after.values())
+
+
+def model_led(book, name, words):
+    """The words at the end of leading a plan on this row, the plans that it calls led as well."""
+    goal, base, rounds = book.plan(name)[1:]
+    if len(words) <= base:
+        return told(goal, words)
+    for text in rounds:
+        after = list(words)
+        for part in text.split("; "):
+            deed, called, rest, many, side, far = CLAUSE.fullmatch(part).groups()
+            places = slice(int(rest), None, int(many))
+            if deed != "call":
+                after[places] = model_round({}, words, part)[places]
+            elif words[places]:
+                after[places] = model_led(book, called, words[places])
+        words = after
+    return words
+
+
+def as_run(word):
+    """A word as the document writes it."""
+    if word is None:
+        return None
+    return (word[0], word[-1] + 1) if word else (0, 0)
+
+
+def model_level(book, name, size):
+    """What `level` has to return; also for more than 100 places."""
+    goals = {one[0]: one[1] for one in book.plans}
+    words = [(place,) for place in range(size)]
+    held = [words]
+    for text in book.plan(name)[3]:
+        held.append(model_round(goals, held[-1], text))
+    return tuple(tuple(as_run(word) for word in words) for words in held)
+
+
+def model_wrong(book, name, size):
+    """The least place that is wrong at this length, None if the plan holds there."""
+    goal, base = book.plan(name)[1:3]
+    if size <= base:
+        return None
+    right = [as_run(word) for word in told(goal, [(place,) for place in range(size)])]
+    last = model_level(book, name, size)[-1]
+    return next((place for place in range(size) if last[place] != right[place]), None)
+
+
+def model_hazards(text, size):
+    """The ascending list of the hazards of a round at this length."""
+    done, read = set(), set()
+    for part in text.split("; "):
+        deed, name, rest, many, side, far = CLAUSE.fullmatch(part).groups()
+        for place in range(int(rest), size, int(many)):
+            other = place - int(far or 0) if side == "left" else place + int(far or 0)
+            there = 0 <= other < size
+            if deed in ("take", "clear") or deed == "join" and there:
+                done.add(place)
+            if deed in ("take", "join") and there:
+                read.add(other)
+    return sorted(done & read)
+
+
+def some_round(chance, names, calls):
+    """A round; it has calls of these names as often as `calls` of ten times."""
+    kinds = chance.choice(GROUPS)
+    if names and chance.randrange(10) < calls:
+        return "; ".join(f"call {chance.choice(names)} on {kind}" for kind in kinds)
+    return "; ".join(chance.choice(list(plain_clauses(kind))) for kind in kinds)
+
+
+def some_book(chance, calls=5):
+    """A book of one to four plans, whose goals, bases and rounds are as chance has it."""
+    names = ["a", "b", "c", "d"][:chance.randrange(1, 5)]
+    plans = []
+    for at, name in enumerate(names):
+        rounds, many = [], chance.randrange(1, 6)
+        while len(rounds) < many:
+            text = some_round(chance, names, calls)
+            # On all places only plans further down can be called.
+            if not any(f"call {one} on 0 of 1" in text for one in names[:at + 1]):
+                rounds.append(text)
+        plans.append((name, chance.choice(GOALS), chance.randrange(1, 5), tuple(rounds)))
+    return Book(tuple(plans))
+
+
+def some_books(seed, many, calls=5):
+    """So many books, the same ones for the same seed."""
+    chance = random.Random(seed)
+    return [some_book(chance, calls) for at in range(many)]
+
+
+def short_books():
+    """Books whose first plan has one round of one clause, all of these; calls are of another plan."""
+    for goal in GOALS:
+        for kind in CLASSES:
+            for text in plain_clauses(kind):
+                yield Book((("top", goal, 1, (text,)),))
+            for other in GOALS:
+                yield Book((("top", goal, 1, (f"call other on {kind}",)), ("other", other, 4, ("clear 0 of 1",))))
