@@ -126,3 +126,8 @@ def plan_of(book, name):
     if not isinstance(book, Book):
         raise NotABook(book)
     return book.plan(name)
+
+
+def read_book(book):
+    """For each plan by its name the tuple (goal, base, rounds), the rounds as tuples of clauses."""
+    return {name: (goal, base, [read_round(text) for text in texts]) for name, goal, base, texts in book.plans}

@@ -1,8 +1,9 @@
-"""The forms of integers, counts, names, goals, clauses and rounds."""
+"""The forms of integers, counts, names, pieces, goals, clauses and rounds."""
 
 from joinrounds.limits import MOST_CLASSES, MOST_CLAUSES, MOST_FAR, MOST_LAST
 
 LONGEST_NAME = 8
+LONGEST_PIECE = 4
 LETTERS = "abcdefghijklmnopqrstuvwxyz"
 DIGITS = "0123456789"
 # Behind so many places the classes with the divisors 1, 2 and 3 come again as they were.
@@ -26,6 +27,13 @@ def is_name(value):
     return value[0] in LETTERS and all([sign in LETTERS + DIGITS for sign in value])
 
 
+def is_piece(value):
+    """Whether this is a string that a row of texts may have as a piece."""
+    if not isinstance(value, str) or not 1 <= len(value) <= LONGEST_PIECE:
+        return False
+    return all([sign in LETTERS for sign in value])
+
+
 def is_goal(value):
     """Whether this is a goal of a plan."""
     lasts = [f"last {many}" for many in range(1, MOST_LAST + 1)]
@@ -37,6 +45,16 @@ def last_of(goal):
     if goal in ("all", "before"):
         return None
     return int(goal[-1])
+
+
+def goal_span(goal, place):
+    """The pair (start, end): the place is to hold the join of the pieces from start to end - 1."""
+    many = last_of(goal)
+    if goal == "before":
+        return 0, place
+    if many is None:
+        return 0, place + 1
+    return max(0, place + 1 - many), place + 1
 
 
 def read_digit(word, low, high):

@@ -1,6 +1,6 @@
-"""Levels and hazards once more, as the document's words tell them, by other means than the package.
+"""Levels, hazards, counts and rows once more, as the document's words tell them, by other means than the package.
 
-Words are tuples of the numbers of the pieces that were joined, None for what is spoilt.
+Words are tuples of the numbers of the pieces that were joined, None for what is spoilt; or texts.
 """
 
 import random
@@ -22,17 +22,17 @@ def joined(words):
     return pieces if one_by_one else None
 
 
-def told(goal, words):
+def told(goal, words, join=joined):
     """What a goal says for a row of these pieces."""
     if goal == "all":
-        return [joined(words[:place + 1]) for place in range(len(words))]
+        return [join(words[:place + 1]) for place in range(len(words))]
     if goal == "before":
-        return [joined(words[:place]) for place in range(len(words))]
+        return [join(words[:place]) for place in range(len(words))]
     many = int(goal.split(" ")[1])
-    return [joined(words[:place + 1][-many:]) for place in range(len(words))]
+    return [join(words[:place + 1][-many:]) for place in range(len(words))]
 
 
-def model_round(goals, words, text):
+def model_round(goals, words, text, join=joined):
     """The words behind a round; the goals are those of the plans by their names."""
     after = dict(enumerate(words))
     before = dict(after)
@@ -40,35 +40,50 @@ def model_round(goals, words, text):
         deed, name, rest, many, side, far = CLAUSE.fullmatch(part).groups()
         places = [place for place in before if place % int(many) == int(rest)]
         if deed == "call":
-            after.update(zip(places, told(goals[name], [before[place] for place in places])))
+            after.update(zip(places, told(goals[name], [before[place] for place in places], join)))
             continue
         for place in places:
             other = place - int(far or 0) if side == "left" else place + int(far or 0)
             if deed == "clear":
-                after[place] = ()
+                after[place] = join([])
             elif deed == "take":
-                after[place] = before.get(other, ())
+                after[place] = before.get(other, join([]))
             elif other in before:
                 pair = sorted((place, other))
-                after[place] = joined([before[one] for one in pair])
+                after[place] = join([before[one] for one in pair])
     return list(after.values())
 
 
-def model_led(book, name, words):
-    """The words at the end of leading a plan on this row, the plans that it calls led as well."""
+def model_led_round(book, words, text, join=joined, log=None):
+    """The words behind a round, the plans that it calls being led."""
+    after = list(words)
+    for part in text.split("; "):
+        deed, called, rest, many, side, far = CLAUSE.fullmatch(part).groups()
+        places = slice(int(rest), None, int(many))
+        if deed != "call":
+            after[places] = model_round({}, words, part, join)[places]
+        elif words[places]:
+            if log is not None:
+                log.append(called)
+            after[places] = model_led(book, called, words[places], join, log)
+    if log is not None:
+        log.append(after)
+    return after
+
+
+def model_led(book, name, words, join=joined, log=None):
+    """The words at the end of leading a plan on this row, the plans that it calls led as well.
+
+    The log is a list that gets the names of the plans that are called, and the words behind each round.
+    """
     goal, base, rounds = book.plan(name)[1:]
     if len(words) <= base:
-        return told(goal, words)
+        words = told(goal, words, join)
+        if log is not None:
+            log.append(words)
+        return words
     for text in rounds:
-        after = list(words)
-        for part in text.split("; "):
-            deed, called, rest, many, side, far = CLAUSE.fullmatch(part).groups()
-            places = slice(int(rest), None, int(many))
-            if deed != "call":
-                after[places] = model_round({}, words, part)[places]
-            elif words[places]:
-                after[places] = model_led(book, called, words[places])
-        words = after
+        words = model_led_round(book, words, text, join, log)
     return words
 
 
@@ -112,6 +127,40 @@ def model_hazards(text, size):
             if deed in ("take", "join") and there:
                 read.add(other)
     return sorted(done & read)
+
+
+def model_counts(book, name, size, known=None):
+    """The pair of the joins and rounds of leading a plan, counted place by place.
+
+    Known is a dict of the pairs that were counted before, by names and lengths.
+    """
+    known = {} if known is None else known
+    if (name, size) not in known:
+        goal, base, rounds = book.plan(name)[1:]
+        if size <= base:
+            takes = [max(0, len(word) - 1) for word in told(goal, [(place,) for place in range(size)])]
+            known[name, size] = sum(takes), max(takes)
+        else:
+            pairs = [model_round_counts(book, size, text, known) for text in rounds]
+            known[name, size] = tuple(map(sum, zip(*pairs)))
+    return known[name, size]
+
+
+def model_round_counts(book, size, text, known):
+    """The pair of the joins and rounds of one round, those of the plans that it calls included."""
+    total = longest = 0
+    for part in text.split("; "):
+        deed, called, rest, many, side, far = CLAUSE.fullmatch(part).groups()
+        places = [place for place in range(size) if place % int(many) == int(rest)]
+        taken, lasted = 0, 1
+        if deed == "call":
+            taken, lasted = model_counts(book, called, len(places), known) if places else (0, 0)
+        elif deed == "join" and side == "left":
+            taken = sum(place >= int(far) for place in places)
+        elif deed == "join":
+            taken = sum(place + int(far) < size for place in places)
+        total, longest = total + taken, max(longest, lasted)
+    return total, longest
 
 
 def some_round(chance, names, calls):

@@ -1,4 +1,4 @@
-"""The examples of the document, word by word, for the modules that are there."""
+"""The examples of the document, word by word."""
 
 import doctest
 import unittest
@@ -15,6 +15,17 @@ EXAMPLES = r"""
 >>> from joinrounds.verdicts import is_sound, uses, wrong_at
 >>> [is_sound(book, "up"), wrong_at(book, "three"), uses(book, "up"), hazards(book, "up"), hazards(book, "three")]
 [True, ('three', 3, 1), ('up',), (), ((0, 3, 1), (1, 3, 1))]
+>>> from joinrounds.counts import joins, rounds
+>>> [joins(book, "up", 8), rounds(book, "up", 8), joins(book, "up", 2 ** 39), rounds(book, "up", 2 ** 39), joins(book, "three", 2)]
+[11, 6, 1099511627735, 78, 1]
+>>> from joinrounds.mending import idle, mends
+>>> other = Book((("four", "last 4", 1, ("join 0 of 1 left 1", "join 0 of 1 left 3")),))
+>>> [mends(other, "four"), idle(book, "up"), idle(other, "four")]
+[((1, 'join 0 of 1 left 2'),), (), ()]
+>>> from joinrounds.rows import Row
+>>> row = Row(book, "up", ("a", "b", "c", "d"))
+>>> [row.after().words, row.last().words, row.last().done, row.due == row.last().words, Row(book, "three", ("a", "b", "c")).last().words]
+[('a', 'ab', 'c', 'cd'), ('a', 'ab', 'abc', 'abcd'), 3, True, ('a', 'aab', 'abbc')]
 """
 
 
@@ -23,7 +34,7 @@ class DocumentTest(unittest.TestCase):
     def test_the_examples_show_what_the_document_shows(self):
         examples = doctest.DocTestParser().get_doctest(EXAMPLES, {}, "document", None, None)
         results = doctest.DocTestRunner().run(examples)
-        self.assertEqual((results.failed, results.attempted), (0, 8))
+        self.assertEqual((results.failed, results.attempted), (0, 16))
 
 
 if __name__ == "__main__":
