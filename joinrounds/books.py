@@ -1,7 +1,7 @@
 """Books of plans."""
 
 from joinrounds.errors import InvalidPlace, InvalidPlans, InvalidText, NotABook, UnknownPlan
-from joinrounds.forms import can_stand, is_goal, is_integer, is_name, read_digit, read_round
+from joinrounds.forms import can_stand, is_goal, is_index, is_integer, is_name, read_digit, read_round
 from joinrounds.limits import MOST_BASE, MOST_PLANS, MOST_ROUNDS
 
 
@@ -104,7 +104,7 @@ class Book:
         """The book with this text in the place of a round of the plan with this name."""
         at = self.find_plan(name)
         title, goal, base, rounds = self.kept[at]
-        if not is_integer(index) or not 0 <= index < len(rounds):
+        if not is_index(index, len(rounds)):
             raise InvalidPlace(index)
         if not can_stand(text, self.names, at):
             raise InvalidText(text)
@@ -121,10 +121,15 @@ class Book:
         return f"Book of {len(self.kept)} plans"
 
 
-def plan_of(book, name):
-    """The plan with this name, whatever both are: NotABook, then UnknownPlan."""
+def check_book(book):
+    """Raises NotABook if this is no book."""
     if not isinstance(book, Book):
         raise NotABook(book)
+
+
+def plan_of(book, name):
+    """The plan with this name, whatever both are: NotABook, then UnknownPlan."""
+    check_book(book)
     return book.plan(name)
 
 

@@ -20,6 +20,11 @@ def is_count(value, most):
     return is_integer(value) and 1 <= value <= most
 
 
+def is_index(value, many):
+    """Whether this is an index of so many elements."""
+    return is_integer(value) and 0 <= value < many
+
+
 def is_name(value):
     """Whether this is a string that a plan may have as its name."""
     if not isinstance(value, str) or not 1 <= len(value) <= LONGEST_NAME:

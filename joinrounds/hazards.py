@@ -25,28 +25,28 @@ def read_places(clause, size):
     return [place + far for place in range(remainder, size, divisor) if is_place(place + far, size)]
 
 
-def least_hazard(clauses, size):
-    """The least hazard of a round without calls at this length, None if there is none."""
+def hazard_places(clauses, size):
+    """The hazards of a round at this length, not always ascending; a round with calls has none."""
+    if clauses[0][0] == "call":
+        return []
     sources = [place for clause in clauses for place in read_places(clause, size)]
     changed = [place for clause in clauses for place in done_places(clause, size)]
-    return min([place for place in changed if place in sources], default=None)
+    return [place for place in changed if place in sources]
 
 
 def first_hazard(clauses):
     """The pair of the least length at which a round has a hazard, and the least hazard there.
 
-    None if it has none at any length, or if its clauses are calls.
+    None if it has none at any length.
     """
-    if clauses[0][0] == "call":
-        return None
     # These lengths are enough. All places that matter for a hazard, the changed one, the one that
     # it reads and the one that reads it, are at most MOST_FAR places to both sides of the first.
     # If the leftmost one is not among the first PERIOD places, the same clauses make a hazard so
     # many places to the left; and the row need not go on behind the rightmost one.
     for size in range(1, PERIOD + 2 * MOST_FAR + 1):
-        place = least_hazard(clauses, size)
-        if place is not None:
-            return size, place
+        places = hazard_places(clauses, size)
+        if len(places) > 0:
+            return size, min(places)
     return None
 
 

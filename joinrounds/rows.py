@@ -144,3 +144,11 @@ class Row:
 
     def __repr__(self):
         return f"Row of {len(self.held)} places behind {self.behind} rounds"
+
+
+def least_wrong(row):
+    """The least place that at the end of a row does not hold what is due, None if there is none."""
+    for place, word in enumerate(row.last().words):
+        if word != row.due[place]:
+            return place
+    return None

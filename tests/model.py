@@ -87,6 +87,37 @@ def model_led(book, name, words, join=joined, log=None):
     return words
 
 
+class Over(Exception):
+    """A model row got too long, or called too many rows."""
+
+
+class Log(list):
+    """What a model's round logs, as far as the round goes on."""
+
+    called = 0
+
+    def append(self, entry):
+        super().append(entry)
+        self.called += isinstance(entry, str)
+        if self.called > 1000 or not isinstance(entry, str) and max(map(len, entry)) > 1000:
+            raise Over()
+
+
+def model_words(book, name, pieces):
+    """What the places hold behind each round in turn; None for a round that gets too long, the last one then."""
+    goal, base, rounds = book.plan(name)[1:]
+    if len(pieces) <= base:
+        return [tuple(told(goal, pieces, "".join))]
+    words, held = list(pieces), []
+    for text in rounds:
+        try:
+            words = model_led_round(book, words, text, "".join, Log())
+        except Over:
+            return held + [None]
+        held.append(tuple(words))
+    return held
+
+
 def as_run(word):
     """A word as the document writes it."""
     if word is None:
@@ -163,6 +194,24 @@ def model_round_counts(book, size, text, known):
     return total, longest
 
 
+def model_certificates(claim):
+    """All certificates for a claim for the checker, which has the form of one."""
+    word, text, name, *rest = claim
+    book = Book.read(text)
+    goal, base, rounds = book.plan(name)[1:]
+    if word == "differs":
+        words, due = model_words(book, name, rest[0])[-1], told(goal, rest[0], "".join)
+        return [] if words is None else [place for place in range(len(due)) if words[place] != due[place]][:1]
+    size = rest[0]
+    if word == "hazard":
+        return [index for index, one in enumerate(rounds) if rest[1] in model_hazards(one, size)]
+    held = model_level(book, name, size)
+    if word == "holds":
+        return [held] if model_wrong(book, name, size) is None else []
+    right = as_run(told(goal, [(place,) for place in range(size)])[rest[1]])
+    return [held] if size > base and held[-1][rest[1]] != right else []
+
+
 def some_round(chance, names, calls):
     """A round; it has calls of these names as often as `calls` of ten times."""
     kinds = chance.choice(GROUPS)
@@ -190,6 +239,22 @@ def some_books(seed, many, calls=5):
     """So many books, the same ones for the same seed."""
     chance = random.Random(seed)
     return [some_book(chance, calls) for at in range(many)]
+
+
+def growing_books(seed, many):
+    """Books with many calls on many places, and, every other one, with words that get long."""
+    chance = random.Random(seed)
+    takes = ("take 0 of 1 left 1", "clear 1 of 3; take 0 of 3 right 4")
+    joins = ("join 0 of 1 left 1", "join 0 of 2 right 1; join 1 of 2 left 1", "join 1 of 3 left 2; take 0 of 3 left 4")
+    for at in range(many):
+        plans = []
+        for index, name in enumerate("abcd"):
+            calls = [f"call {other} on 0 of 1" for other in "abcd"[index + 1:]]
+            calls += [f"call {other} on 0 of 2; call {name} on 1 of 2" for other in "abcd"]
+            kinds = [calls] * 9 + [takes] if at % 2 else [calls, joins]
+            rounds = [chance.choice(chance.choice(kinds)) for done in range(5 if at % 2 else chance.randrange(2, 6))]
+            plans.append((name, chance.choice(GOALS), chance.randrange(1, 3), tuple(rounds)))
+        yield Book(tuple(plans))
 
 
 def short_books():

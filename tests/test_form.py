@@ -116,6 +116,26 @@ class FormTest(unittest.TestCase):
                     if isinstance(sign, (ast.Is, ast.IsNot)):
                         self.assertIsInstance(right, ast.Constant, where)
 
+    def test_no_local_name_is_that_of_an_import_or_a_class(self):
+        for path in files():
+            tree = ast.parse(path.read_text("ascii"))
+            shared = {one.name for node in tree.body if isinstance(node, ast.ImportFrom) for one in node.names}
+            shared |= {node.name for node in tree.body if isinstance(node, ast.ClassDef)}
+            for function in ast.walk(tree):
+                if isinstance(function, ast.FunctionDef):
+                    names = {name for node in ast.walk(function) for name in bound_names(node)}
+                    self.assertEqual(names & shared, set(), f"{path.name} {function.name}")
+
+    def test_no_attribute_has_the_name_of_a_property(self):
+        properties, attributes = set(), set()
+        for where, node in trees():
+            if isinstance(node, ast.FunctionDef) and any(getattr(one, "id", "") == "property" for one in node.decorator_list):
+                properties.add(node.name)
+            if isinstance(node, ast.Attribute) and isinstance(node.ctx, ast.Store):
+                attributes.add(node.attr)
+        self.assertIn("claims", properties)
+        self.assertEqual(properties & attributes, set())
+
     def test_no_name_is_a_method_and_an_attribute(self):
         methods, attributes = set(), set()
         for where, node in trees():

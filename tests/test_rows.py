@@ -1,14 +1,13 @@
 """Rows of texts, led round by round."""
 
 import itertools
-import random
 import unittest
 
 from joinrounds.books import Book
 from joinrounds.errors import InvalidPieces, IsOver, NotABook, TooLong, UnknownPlan
 from joinrounds.rows import Row
 from joinrounds.verdicts import is_sound
-from tests.model import model_led_round, some_books, told
+from tests.model import Log, growing_books, model_led_round, model_words, some_books, told
 from tests.samples import (BAD_NAMES, BOTH_TEXT, FOUR_TEXT, GOALS, GOOD_NAMES, NO_STRINGS, SOUND_TEXTS, THREE, UP,
                            WRONG_TEXTS, plan)
 
@@ -20,54 +19,9 @@ BAD_PIECES = NO_STRINGS + ("", "abcde", "aaaaaaaaaaaa", "A", "aB", "abC", "1", "
 METHODS = ("book", "name", "words", "done", "is_over", "due", "after", "last")
 
 
-class Over(Exception):
-    """A model row got too long, or called too many rows."""
-
-
-class Log(list):
-    """What a model's round logs, as far as the round goes on."""
-
-    def append(self, entry):
-        super().append(entry)
-        called = sum(isinstance(one, str) for one in self)
-        if called > 1000 or not isinstance(entry, str) and max(map(len, entry)) > 1000:
-            raise Over()
-
-
-def model_words(book, name, pieces):
-    """What the places hold behind each round in turn; None for a round that gets too long, the last one then."""
-    goal, base, rounds = book.plan(name)[1:]
-    if len(pieces) <= base:
-        return [tuple(told(goal, pieces, "".join))]
-    words, held = list(pieces), []
-    for text in rounds:
-        try:
-            words = model_led_round(book, words, text, "".join, Log())
-        except Over:
-            return held + [None]
-        held.append(tuple(words))
-    return held
-
-
 def book_of(rounds, goal="all", base=1, others=()):
     """A book whose first plan is called top; the others are tuples of plans."""
     return Book((plan("top", goal, base, tuple(rounds)), *others))
-
-
-def growing_books(seed, many):
-    """Books with many calls on many places, and, every other one, with words that get long."""
-    chance = random.Random(seed)
-    takes = ("take 0 of 1 left 1", "clear 1 of 3; take 0 of 3 right 4")
-    joins = ("join 0 of 1 left 1", "join 0 of 2 right 1; join 1 of 2 left 1", "join 1 of 3 left 2; take 0 of 3 left 4")
-    for at in range(many):
-        plans = []
-        for index, name in enumerate("abcd"):
-            calls = [f"call {other} on 0 of 1" for other in "abcd"[index + 1:]]
-            calls += [f"call {other} on 0 of 2; call {name} on 1 of 2" for other in "abcd"]
-            kinds = [calls] * 9 + [takes] if at % 2 else [calls, joins]
-            rounds = [chance.choice(chance.choice(kinds)) for done in range(5 if at % 2 else chance.randrange(2, 6))]
-            plans.append(plan(name, chance.choice(GOALS), chance.randrange(1, 3), tuple(rounds)))
-        yield Book(tuple(plans))
 
 
 class RowCase(unittest.TestCase):
@@ -342,7 +296,7 @@ class CalledRowsTest(RowCase):
         # The same once more as the model has it.
         log = Log()
         model_led_round(self.book(("call b on 0 of 1",)), SIX, "call b on 0 of 1", "".join, log)
-        self.assertEqual(sum(isinstance(one, str) for one in log), 1000)
+        self.assertEqual(log.called, 1000)
 
     def test_a_thousand_and_one_called_rows(self):
         book = self.book(("call b on 0 of 1",), ("call b on 2 of 3",))
