@@ -5,7 +5,7 @@ import unittest
 from unittest import mock
 
 from joinrounds.books import Book
-from joinrounds.counts import joins, rounds
+from joinrounds.counts import joins
 from joinrounds.desks import Desk
 from joinrounds.errors import (Broken, InvalidClaim, InvalidPlace, InvalidText, NotABook, NothingToUndo, TooLong,
                                UnknownPlan)
