@@ -188,3 +188,6 @@ class Console:
             return "Broken"
         except NothingToUndo:
             return "NothingToUndo"
+
+    def __eq__(self, other):
+        return isinstance(other, Console) and self.desk == other.desk

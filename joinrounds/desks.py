@@ -44,6 +44,10 @@ def check_claim(book, index, claim):
         raise Broken(index, shown)
 
 
+class Mark:
+    """What tells one object from all others: it equals itself alone."""
+
+
 class State:
     """What a desk has at one time, and the state that is back when its last deed is taken back.
 
@@ -71,6 +75,7 @@ class Trial:
     def __init__(self, desk):
         self.desk = desk
         self.begun = None
+        self.mark = Mark()
 
     def __enter__(self):
         # It may be used within itself, so what it has begun before is kept.
@@ -82,6 +87,9 @@ class Trial:
             self.desk.state = self.begun.state
         self.begun = self.begun.around
 
+    def __eq__(self, other):
+        return isinstance(other, Trial) and self.mark == other.mark
+
 
 class Desk:
     """A book and a row of claims that hold for it."""
@@ -89,6 +97,7 @@ class Desk:
     def __init__(self, book):
         check_book(book)
         self.state = State(book, (), None, 0)
+        self.mark = Mark()
 
     @property
     def book(self):
@@ -146,3 +155,6 @@ class Desk:
         """What the function returns that is called with this desk within a trial."""
         with self.trial() as desk:
             return action(desk)
+
+    def __eq__(self, other):
+        return isinstance(other, Desk) and self.mark == other.mark

@@ -353,7 +353,7 @@ class LikeADeskTest(ConsoleCase):
         other = Console(self.book)
         self.assertEqual([self.console == self.console, self.console != self.console], [True, False])
         self.assertEqual([self.console == other, self.console != other], [False, True])
-        for value in (self.book, Desk(self.book), "", None, 0):
+        for value in NO_STRINGS + (self.book, Desk(self.book), "", "up"):
             self.assertEqual([self.console == value, self.console != value], [False, True])
         self.assertIs(bool(self.console), True)
 

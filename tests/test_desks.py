@@ -464,9 +464,10 @@ class TrialTest(DeskCase):
     def test_what_trial_returns_equals_itself_alone(self):
         trial, other = self.desk.trial(), self.desk.trial()
         self.assertEqual([trial == trial, trial != trial, trial == other, trial != other], [True, False, False, True])
-        for value in NO_STRINGS[:20] + (self.desk, self.book):
-            if value != mock.ANY:
-                self.assertEqual([trial == value, trial != value], [False, True])
+        for value in NO_STRINGS + (self.desk, self.book):
+            self.assertEqual([trial == value, trial != value], [False, True])
+        with trial:
+            self.assertEqual([trial == trial, trial == other, self.desk.trial() == trial], [True, False, False])
 
     def test_trials_of_two_desks(self):
         other = Desk(self.book)
@@ -531,8 +532,12 @@ class ObjectsTest(DeskCase):
         other = Desk(self.book)
         self.assertEqual([self.desk == self.desk, self.desk != self.desk], [True, False])
         self.assertEqual([self.desk == other, self.desk != other], [False, True])
-        for value in (self.book, "up", None, (), 0, True, self.desk.trial()):
+        for value in NO_STRINGS + (self.book, "up", self.desk.trial()):
             self.assertEqual([self.desk == value, self.desk != value], [False, True])
+        self.desk.claim(SOUND)
+        other.claim(SOUND)
+        with self.desk.trial() as desk:
+            self.assertEqual([self.desk == desk, self.desk == other, desk != other], [True, False, True])
 
     def test_two_desks_with_a_book(self):
         other = Desk(self.book)
